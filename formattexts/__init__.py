@@ -1,0 +1,1 @@
+"""Formats and values as texts, printed, scanned."""
