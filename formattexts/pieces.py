@@ -1,4 +1,4 @@
-"""The pieces of formats, and what is counted in them."""
+"""The pieces of formats, their limits, and what is counted in them."""
 
 # The kinds of pieces, as the numbers that stand for them.
 LITERAL = 0
@@ -11,6 +11,11 @@ REPEAT = 5
 # By kind: the word that begins such a piece in a source, and how many rows it has.
 KIND_WORDS = ("", "num", "word", "alt", "opt", "rep")
 ROW_COUNTS = (0, 0, 0, 2, 1, 1)
+
+MOST_PIECES = 14
+MOST_GONE_THROUGH = 8
+MOST_TEXT_BYTES = 8
+HIGHEST_BOUND = 4
 
 
 # Every kind has the same values, so that one walk serves them all: what a kind has none of
@@ -32,8 +37,23 @@ def has_bounds(kind):
     return kind in (NUMBER, WORD, REPEAT)
 
 
+def fewest_text_bytes(kind):
+    return 0 if kind == REPEAT else 1
+
+
 def lowest_bound(kind):
     return 0 if kind == REPEAT else 1
+
+
+# What stands behind a piece's kind and text is the same in sources and in numbers; only how
+# a bound and a row are read there is each reading's own.
+def read_behind_text(reading, kind, text, within_repeat):
+    lo = reading.read_bound(lowest_bound(kind)) if has_bounds(kind) else 0
+    hi = reading.read_bound(lo) if has_bounds(kind) else 0
+    rows = []
+    while len(rows) < ROW_COUNTS[kind]:
+        rows.append(reading.read_row(within_repeat or kind == REPEAT))
+    return Piece(kind, text, lo, hi, rows)
 
 
 def piece_count(row):

@@ -1,4 +1,4 @@
-"""A format's steps in a row, and the prints and scannings found by walking them.
+"""A format's steps in a row, and the prints and scannings found and counted by walking them.
 
 The steps are laid from the format's end to its beginning: step 0 is the end itself, the
 last one is where the format begins, and every step leads to ones ahead of it only. So one
@@ -88,6 +88,11 @@ def way_counts(steps, text):
 
 def ways_from(step, counts, text, place):
     return sum([counts[lead.target][place + len(lead.text)] for lead in step.by_text(text[place:])])
+
+
+# Whatever leads to the end another way has other numbers, so each way is a scanning of its own.
+def scanning_count(row, text):
+    return way_counts(steps_of(row), text)[-1][0]
 
 
 # None if the text has no scanning.

@@ -2,8 +2,10 @@
 
 from formattexts.faults import Fault
 from formattexts.forms import one_form, row_numbers
+from formattexts.handed import NotAFormat, read_format
+from formattexts.lengths import longest_length, shortest_length
 from formattexts.pieces import gone_through, piece_count
-from formattexts.plans import first_scanning, print_of
+from formattexts.plans import first_scanning, print_of, scanning_count
 from formattexts.sources import read_source
 
 LOAD = 0
@@ -11,6 +13,11 @@ SHOWN = 1
 FORMAT = 2
 PRINT = 3
 SCAN = 4
+WAYS = 5
+TOLD = 6
+LENGTHS = 7
+ROUND = 8
+PUT = 9
 
 MOST_SOURCE_BYTES = 1200
 MOST_TEXT_BYTES = 24
@@ -51,6 +58,39 @@ class Keeper:
             return [-1]
         return found(first_scanning(self.row, text))
 
+    def ways(self, text):
+        if len(text) > MOST_TEXT_BYTES:
+            return [-1]
+        return [scanning_count(self.row, text)]
+
+    def listed_value(self, number):
+        if not 0 <= number < len(self.listed):
+            return [-3]
+        value = self.listed[number]
+        return counted(value) + found(print_of(self.row, value))
+
+    def lengths(self):
+        return [shortest_length(self.row), longest_length(self.row)]
+
+    def come_back(self, value):
+        if not is_whole_value(value):
+            return [-5]
+        text = print_of(self.row, value[1:])
+        if text is None:
+            return [-4]
+        if len(text) > MOST_TEXT_BYTES:
+            return [-7]
+        numbers = first_scanning(self.row, text)
+        return [1] if numbers == value[1:] else [0] + counted(numbers)
+
+    def put(self, pieces):
+        try:
+            row = read_format(pieces)
+        except NotAFormat:
+            return [-5]
+        self.row = row
+        return [piece_count(row), gone_through(row)]
+
 
 def is_whole_value(value):
     if not value or value[0] != len(value) - 1 or value[0] > MOST_NUMBERS:
@@ -69,7 +109,7 @@ def found(numbers):
 
 
 def has_list(call):
-    return call in (LOAD, PRINT, SCAN)
+    return call in (LOAD, PRINT, SCAN, WAYS, ROUND, PUT)
 
 
 def answer(keeper, call, numbers):
@@ -83,7 +123,17 @@ def answer(keeper, call, numbers):
         return keeper.as_numbers()
     if call == PRINT:
         return keeper.printed(numbers)
-    return keeper.scanned(numbers)
+    if call == SCAN:
+        return keeper.scanned(numbers)
+    if call == WAYS:
+        return keeper.ways(numbers)
+    if call == TOLD:
+        return keeper.listed_value(numbers[0])
+    if call == LENGTHS:
+        return keeper.lengths()
+    if call == ROUND:
+        return keeper.come_back(numbers)
+    return keeper.put(numbers)
 
 
 def answers(calls):
@@ -93,11 +143,12 @@ def answers(calls):
     while at < len(calls):
         call = calls[at]
         at += 1
-        if call > SCAN:
-            raise ValueError(f"call {call} is not there yet")
-        numbers = []
-        if has_list(call):
-            numbers = calls[at + 1:at + 1 + calls[at]]
-            at += 1 + len(numbers)
-        answered.extend(counted(answer(keeper, call, numbers)))
+        size = 0
+        if call == TOLD:
+            size = 1
+        elif has_list(call):
+            size = calls[at]
+            at += 1
+        answered.extend(counted(answer(keeper, call, calls[at:at + size])))
+        at += size
     return answered

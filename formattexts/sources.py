@@ -2,16 +2,12 @@
 
 from formattexts.faults import OUT_OF_BOUNDS, OUT_OF_PLACE, REPEAT_WITHIN_REPEAT, TOO_MANY, TOO_MUCH_GONE_THROUGH
 from formattexts.faults import Fault
-from formattexts.pieces import KIND_WORDS, LITERAL, REPEAT, ROW_COUNTS
-from formattexts.pieces import Piece, gone_through, has_bounds, has_text, lowest_bound
+from formattexts.pieces import HIGHEST_BOUND, KIND_WORDS, LITERAL, MOST_GONE_THROUGH, MOST_PIECES, MOST_TEXT_BYTES
+from formattexts.pieces import REPEAT, fewest_text_bytes, gone_through, has_text, read_behind_text
 from formattexts.tokens import END, MARK, NUMERAL, STRING, read_tokens
 
-MOST_PIECES = 14
-MOST_GONE_THROUGH = 8
 MOST_VALUES = 6
 MOST_NUMERALS = 60
-MOST_TEXT_BYTES = 8
-HIGHEST_BOUND = 4
 
 
 class Source:
@@ -75,15 +71,8 @@ class Reading:
         token = self.take()
         kind = kind_begun(token)
         self.check_piece(token, kind, within_repeat)
-        if kind == LITERAL:
-            return Piece(kind, token.told, 0, 0, [])
-        text = self.read_separator() if has_text(kind) else []
-        lo = self.read_bound(lowest_bound(kind)) if has_bounds(kind) else 0
-        hi = self.read_bound(lo) if has_bounds(kind) else 0
-        rows = []
-        while len(rows) < ROW_COUNTS[kind]:
-            rows.append(self.read_row(within_repeat or kind == REPEAT))
-        return Piece(kind, text, lo, hi, rows)
+        text = self.read_text(token, kind) if has_text(kind) else []
+        return read_behind_text(self, kind, text, within_repeat)
 
     # The order of these is the document's: of several faults at one place the first counts.
     def check_piece(self, token, kind, within_repeat):
@@ -94,12 +83,11 @@ class Reading:
             raise Fault(TOO_MANY, token.place)
         if kind == REPEAT and within_repeat:
             raise Fault(REPEAT_WITHIN_REPEAT, token.place)
-        if kind == LITERAL and not 1 <= len(token.told) <= MOST_TEXT_BYTES:
-            raise Fault(OUT_OF_BOUNDS, token.place)
 
-    def read_separator(self):
-        token = self.take_kind(STRING)
-        if len(token.told) > MOST_TEXT_BYTES:
+    # A literal's string is the token that begins it.
+    def read_text(self, begun, kind):
+        token = begun if kind == LITERAL else self.take_kind(STRING)
+        if not fewest_text_bytes(kind) <= len(token.told) <= MOST_TEXT_BYTES:
             raise Fault(OUT_OF_BOUNDS, token.place)
         return token.told
 

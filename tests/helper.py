@@ -2,8 +2,8 @@
 
 from formattexts.scanning import answers
 
-NUMBERS = {"load": 0, "shown": 1, "format": 2, "print": 3, "scan": 4}
-WITH_LIST = ("load", "print", "scan")
+NAMES = ("load", "shown", "format", "print", "scan", "ways", "told", "lengths", "round", "put")
+WITH_LIST = ("load", "print", "scan", "ways", "round", "put")
 
 
 def as_list(told):
@@ -15,10 +15,12 @@ def line_of(*calls):
     line = []
     for call in calls:
         name = call if isinstance(call, str) else call[0]
-        line.append(NUMBERS[name])
+        line.append(NAMES.index(name))
         if name in WITH_LIST:
             told = as_list(call[1])
             line += [len(told)] + told
+        elif name == "told":
+            line.append(call[1])
     return line
 
 
@@ -71,3 +73,18 @@ def scanning_of(row, text):
         return None
     assert answered[0] == 1 and answered[1] == len(answered) - 2, answered
     return answered[2:]
+
+
+def ways_of(row, text):
+    """How many scannings there are, or a refusal."""
+    answered = ask(("load", in_form(row)), ("ways", text))[-1]
+    assert len(answered) == 1, answered
+    return answered[0]
+
+
+def lengths_of(row):
+    return ask(("load", in_form(row)), "lengths")[-1]
+
+
+def round_of(row, *numbers):
+    return ask(("load", in_form(row)), ("round", [len(numbers)] + list(numbers)))[-1]

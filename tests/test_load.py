@@ -173,6 +173,7 @@ class TooMany(FaultCase):
     def test_deepest(self):
         self.told(6, "@" + in_form("opt { " * 14 + "} " * 14))
         self.good(in_form("opt { " * 8 + "} " * 8), 8, 8, 0)
+        self.good(in_form('rep "" 0 0 { ' + "opt { " * 13 + "} " * 14), 14, 1, 0)
 
     def test_ahead_of_three_and_five(self):
         self.told(4, in_form('"x" ' * 14 + '@""'), in_form('"x" ' * 14 + '@"123456789"'))

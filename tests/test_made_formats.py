@@ -1,4 +1,4 @@
-"""Many made formats, against a print and scannings that are found in another, plainer way.
+"""Many made formats, against prints, scannings and lengths that are found in another, plainer way.
 
 A made row is a list of tuples: ("text", t), ("num", lo, hi), ("word", lo, hi),
 ("alt", row, row), ("opt", row), ("rep", t, lo, hi, row).
@@ -162,6 +162,65 @@ def whole_scannings(row, text):
     return [value for value, left in scannings(row, text) if not left]
 
 
+def sizes(row):
+    """How long the prints may be, by what the pieces tell."""
+    found = {0}
+    for piece in row:
+        found = {size + more for size in found for more in sizes_of_piece(piece)}
+    return found
+
+
+def sizes_of_piece(piece):
+    if piece[0] == "text":
+        return {len(piece[1])}
+    if piece[0] == "alt":
+        return sizes(piece[1]) | sizes(piece[2])
+    if piece[0] == "opt":
+        return sizes(piece[1]) | {0}
+    if piece[0] == "rep":
+        return set().union(*[sizes(list(between(piece, times))) for times in range(piece[2], piece[3] + 1)])
+    return set(range(piece[1], piece[2] + 1))
+
+
+def row_of(numbers, within_repeat):
+    """(the made row that the numbers begin with, the numbers left); fails where they begin with none."""
+    count, rest = bound(numbers, 0, 14)
+    row = []
+    for each in range(count):
+        kind, rest = bound(rest, 0, 5)
+        assert not (kind == 5 and within_repeat)
+        piece = [("text", "num", "word", "alt", "opt", "rep")[kind]]
+        if kind in (0, 5):
+            size, rest = bound(rest, 1 if kind == 0 else 0, 8)
+            text = rest[:size]
+            assert len(text) == size and all(32 <= byte <= 126 for byte in text)
+            piece.append("".join(chr(byte) for byte in text))
+            rest = rest[size:]
+        if kind in (1, 2, 5):
+            lo, rest = bound(rest, 0 if kind == 5 else 1, 4)
+            hi, rest = bound(rest, lo, 4)
+            piece += [lo, hi]
+        for each_row in range((0, 0, 0, 2, 1, 1)[kind]):
+            inner, rest = row_of(rest, within_repeat or kind == 5)
+            piece.append(inner)
+        row.append(tuple(piece))
+    return row, rest
+
+
+def bound(numbers, lo, hi):
+    assert numbers and lo <= numbers[0] <= hi
+    return numbers[0], numbers[1:]
+
+
+def whole_row_of(numbers):
+    """The made row within its limits, or None."""
+    try:
+        row, rest = row_of(numbers, False)
+    except AssertionError:
+        return None
+    return row if not rest and pieces(row) <= 14 and gone(row) <= 8 else None
+
+
 def made_value(chance, row):
     """A value that may have a print."""
     value = []
@@ -204,6 +263,10 @@ def scanned(row, text):
     return answered[2:] if answered[0] else None
 
 
+def ways(row, text):
+    return ask(("load", "format " + form(row)), ("ways", text))[1][0]
+
+
 class MadeFormats(unittest.TestCase):
     def test_load_shown_and_format(self):
         for chance, row in made_formats(1, 400):
@@ -215,27 +278,64 @@ class MadeFormats(unittest.TestCase):
 
     def test_prints_and_their_scannings(self):
         some = 0
+        others = 0
         for chance, row in made_formats(2, 1500):
             value = made_value(chance, row)
             value = spoilt(chance, value) if chance.randint(0, 2) == 0 else value
             got = prints(row, value, "")
             text = got[1] if got and not got[0] else None
-            answered = ask(("load", "format " + form(row)), ("print", [len(value)] + value))[1]
+            source = "format " + form(row) + " value ( " + " ".join(str(number) for number in value) + " );"
+            counted = [len(value)] + value
+            answered = ask(("load", source), ("print", counted), ("told", 0), ("round", counted))
             printed = [0] if text is None else [1, len(text)] + [ord(sign) for sign in text]
-            self.assertEqual(answered, printed, (form(row), value))
-            if text is not None and len(text) <= 24:
-                some += 1
-                first = whole_scannings(row, text)[0]
-                self.assertEqual(scanned(row, text), first, (form(row), text))
+            self.assertEqual(answered[1], printed, (form(row), value))
+            self.assertEqual(answered[2], counted + printed, (form(row), value))
+            if text is None or len(text) > 24:
+                self.assertEqual(answered[3], [-4] if text is None else [-7], (form(row), value))
+                continue
+            some += 1
+            first = whole_scannings(row, text)[0]
+            others += first != value
+            came_back = [1] if first == value else [0, len(first)] + first
+            self.assertEqual(answered[3], came_back, (form(row), value))
+            self.assertEqual(scanned(row, text), first, (form(row), text))
+            self.assertEqual(ways(row, text), len(whole_scannings(row, text)), (form(row), text))
         self.assertGreater(some, 400)
+        self.assertGreater(others, 30)
 
     def test_made_texts(self):
         for chance, row in made_formats(3, 150):
             for size in range(0, 4):
                 for signs in itertools.product("01ab,", repeat=size):
                     text = "".join(signs)
-                    firsts = whole_scannings(row, text)[:1] or [None]
-                    self.assertEqual(scanned(row, text), firsts[0], (form(row), text))
+                    found = whole_scannings(row, text)
+                    self.assertEqual(scanned(row, text), found[0] if found else None, (form(row), text))
+                    self.assertEqual(ways(row, text), len(found), (form(row), text))
+
+    def test_lengths(self):
+        for chance, row in made_formats(4, 600):
+            answered = ask(("load", "format " + form(row)), "lengths")[1]
+            self.assertEqual(answered, [min(sizes(row)), max(sizes(row))], form(row))
+
+    def test_put(self):
+        for chance, row in made_formats(5, 400):
+            answered = ask(("load", "format { }"), ("put", numbers_of(row)), "format", "shown")
+            self.assertEqual(answered[1], [pieces(row), gone(row)], form(row))
+            self.assertEqual(answered[2], numbers_of(row), form(row))
+            self.assertEqual(bytes(answered[3][1:]).decode(), "format " + form(row) + "\n")
+
+    def test_put_of_spoilt_lists(self):
+        whole = 0
+        for chance, row in made_formats(6, 3000):
+            numbers = spoilt(chance, numbers_of(row))
+            answered = ask(("load", "format { }"), ("put", numbers), "format")
+            found = whole_row_of(numbers)
+            whole += found is not None
+            if found is None:
+                self.assertEqual(answered[1:], [[-5], [0]], numbers)
+            else:
+                self.assertEqual(answered[1:], [[pieces(found), gone(found)], numbers], numbers)
+        self.assertTrue(300 < whole < 2700, whole)
 
 
 if __name__ == "__main__":
